@@ -2,9 +2,16 @@
 package synod
 
 import (
+	"errors"
+	"slices"
+	"strings"
+
 	"synod/api"
+	"synod/journal"
+	"synod/outbox"
 	"synod/registry"
 	"synod/ring"
+	"synod/timers"
 	"synod/wire"
 )
 
@@ -30,31 +37,105 @@ func Fold(genesis []int, blocks []string) (api.Registry, error) {
 }
 
 // Node is a validator, or one who looks on.
-type Node struct{}
+type Node struct {
+	key      *ring.Key
+	registry registry.Registry // behind the blocks that are decided
+	decided  []decision        // by heights; as many as there are is the node's height
+	waiting  []string          // records
+	log      journal.Log       // of the node's height
+	ahead    journal.Log       // taken ahead of time, of the next height
+	locked   choice
+	valid    choice
+	turn
+	time   int
+	timers timers.Heap
+	out    outbox.Box
+}
 
 // New makes a node (P5).
-func New(key *ring.Key, genesis []int) (*Node, error) { return nil, nil }
+func New(key *ring.Key, genesis []int) (*Node, error) {
+	r, err := registry.Genesis(genesis)
+	if err != nil {
+		return nil, err
+	}
+	n := &Node{key: key, registry: r, out: outbox.New()}
+	n.beginHeight()
+	n.goOn()
+	return n, nil
+}
 
 // Submit lets a record wait to be proposed (P5).
-func (n *Node) Submit(record string) error { return nil }
+func (n *Node) Submit(record string) error {
+	if !registry.IsRecord(record) {
+		return api.ErrRecord
+	}
+	if len(n.waiting) >= api.MaxPending {
+		return api.ErrFull
+	}
+	n.waiting = append(n.waiting, strings.Clone(record)) // the caller's memory is not kept
+	return nil
+}
 
 // Receive takes a frame (P7).
-func (n *Node) Receive(frame string) error { return nil }
+func (n *Node) Receive(frame string) error {
+	m, err := wire.Decode(frame)
+	if err != nil {
+		return &api.Refused{From: -1, Why: err}
+	}
+	err = n.refusal(m, frame)
+	if errors.Is(err, api.ErrPast) {
+		n.tellAgain(m.Height)
+	}
+	if err != nil {
+		return &api.Refused{From: m.From, Why: err}
+	}
+	n.take(journal.Entry{Msg: m, Frame: strings.Clone(frame)}) // the caller's memory is not kept
+	n.goOn()
+	return nil
+}
 
 // Tick lets time go on (P8).
-func (n *Node) Tick() {}
+func (n *Node) Tick() {
+	n.time++
+	for i := range n.decided {
+		n.decided[i].told = false
+	}
+	for t, ok := n.timers.Next(n.time); ok; t, ok = n.timers.Next(n.time) {
+		n.expire(t)
+		n.goOn()
+	}
+	if n.time%api.Resend == 0 {
+		n.out.Put(n.log.Frames(isOwn)...)
+	}
+}
 
 // Sent tells what was put out since it was asked last (P8).
-func (n *Node) Sent() []string { return nil }
+func (n *Node) Sent() []string { return n.out.Take() }
 
 // State tells how the node stands (P9).
-func (n *Node) State() api.State { return api.State{} }
+func (n *Node) State() api.State {
+	return api.State{
+		Height:      n.height(),
+		Round:       n.round,
+		Step:        n.step,
+		Locked:      n.locked.round,
+		Valid:       n.valid.round,
+		LockedValue: n.locked.value,
+		ValidValue:  n.valid.value,
+	}
+}
 
 // Decided tells a block that was decided, and its certificate (P9).
-func (n *Node) Decided(height int) (string, []string, error) { return "", nil, nil }
+func (n *Node) Decided(height int) (string, []string, error) {
+	if height < 0 || height >= len(n.decided) {
+		return "", nil, api.ErrNone
+	}
+	d := n.decided[height]
+	return d.block, slices.Clone(d.certificate), nil
+}
 
 // Registry tells what the decided blocks make (P9).
-func (n *Node) Registry() api.Registry { return api.Registry{} }
+func (n *Node) Registry() api.Registry { return n.registry.Tell() }
 
 // Client follows by certificates alone.
 type Client struct{}

@@ -1,0 +1,226 @@
+package synod_test
+
+import (
+	"math/rand"
+	"slices"
+	"testing"
+
+	"synod/api"
+	"synod/ring"
+	"synod/synod"
+)
+
+// network carries frames between nodes, and loses, doubles and delays some.
+type network struct {
+	t      *testing.T
+	random *rand.Rand
+	keys   []*ring.Key
+	nodes  []*synod.Node // nil: one who lies
+	late   []letter
+	heard  []string // all that was ever sent, for those who lie
+}
+
+type letter struct {
+	to    int
+	frame string
+}
+
+func connect(t *testing.T, seed int64, genesis []int, liars ...int) *network {
+	t.Helper()
+	_, keys := ring.New(len(genesis))
+	w := &network{t: t, random: rand.New(rand.NewSource(seed)), keys: keys}
+	for id, key := range keys {
+		if slices.Contains(liars, id) {
+			w.nodes = append(w.nodes, nil)
+		} else {
+			w.nodes = append(w.nodes, node(t, key, genesis...))
+		}
+	}
+	return w
+}
+
+// carry brings everything that is out to all others; each frame is lost or late in so many of ten cases, and sometimes doubled. It tells how many frames there were.
+func (w *network) carry(lost, late int) int {
+	letters := w.late
+	w.late = nil
+	for from, n := range w.nodes {
+		if n == nil {
+			continue
+		}
+		for _, frame := range n.Sent() {
+			w.heard = append(w.heard, frame)
+			for to := range w.nodes {
+				if to != from {
+					letters = append(letters, letter{to, frame})
+				}
+			}
+		}
+	}
+	w.random.Shuffle(len(letters), func(i, j int) { letters[i], letters[j] = letters[j], letters[i] })
+	for _, l := range letters {
+		switch x := w.random.Intn(10); {
+		case w.nodes[l.to] == nil || x < lost:
+		case x < lost+late:
+			w.late = append(w.late, l)
+		default:
+			w.nodes[l.to].Receive(l.frame)
+			if late > 0 && w.random.Intn(5) == 0 {
+				w.late = append(w.late, l)
+			}
+		}
+	}
+	return len(letters)
+}
+
+// settle brings everything to everybody, till there is nothing more.
+func (w *network) settle() {
+	for range 1000 {
+		if w.carry(0, 0) == 0 {
+			return
+		}
+	}
+	w.t.Fatal("the network does not come to rest")
+}
+
+// lie lets one who lies sign what suits it, and tell each something else.
+func (w *network) lie(liar, height int) {
+	values := []string{"", "ja1", "jb1"}
+	for _, frame := range w.heard[max(0, len(w.heard)-8):] {
+		if m, err := synod.Decode(frame); err == nil && m.Height == height && !slices.Contains(values, m.Value) {
+			values = append(values, m.Value)
+		}
+	}
+	for to, n := range w.nodes {
+		if n == nil || w.random.Intn(2) == 0 {
+			continue
+		}
+		m := api.Msg{Kind: 1 + w.random.Intn(3), Height: height, Round: min(n.State().Round+w.random.Intn(3), 255), From: liar, Value: values[w.random.Intn(len(values))]}
+		if m.Kind == api.Proposal {
+			m.Valid = w.random.Intn(m.Round+1) - 1
+		} else if w.random.Intn(3) == 0 {
+			m.Nil, m.Value = true, ""
+		}
+		frame, err := synod.Encode(m)
+		if err != nil {
+			w.t.Fatalf("Encode(%+v): %v", m, err)
+		}
+		w.keys[liar].Sign(frame)
+		w.late = append(w.late, letter{to, frame})
+	}
+}
+
+func (w *network) tick() {
+	for _, n := range w.nodes {
+		if n != nil {
+			n.Tick()
+		}
+	}
+}
+
+// agree sees that no two nodes have decided two blocks for one height.
+func (w *network) agree() {
+	w.t.Helper()
+	for h := range api.MaxHeight {
+		var blocks []string
+		for _, n := range w.nodes {
+			if n == nil {
+				continue
+			}
+			if block, _, err := n.Decided(h); err == nil && !slices.Contains(blocks, block) {
+				blocks = append(blocks, block)
+			}
+		}
+		if len(blocks) > 1 {
+			w.t.Fatalf("the height %d is decided as %q", h, blocks)
+		}
+	}
+}
+
+func (w *network) least() int {
+	least := api.MaxHeight
+	for _, n := range w.nodes {
+		if n != nil {
+			least = min(least, n.State().Height)
+		}
+	}
+	return least
+}
+
+var someGenesis = [][]int{{1, 1, 1, 1}, {1, 1, 1}, {3, 2, 2, 1}, {5, 1, 1}, {1, 1}, {1, 2, 3, 4, 5, 6, 7, 8}, {1, 0, 1, 1, 1}}
+
+// All are honest, and much is lost for a while: then every height is decided, with the records in it.
+func TestP6HonestNodesDecide(t *testing.T) {
+	for seed := range int64(40) {
+		genesis := someGenesis[seed%int64(len(someGenesis))]
+		w := connect(t, seed, genesis)
+		for range seed % 12 {
+			w.carry(4, 4)
+			w.tick()
+		}
+		w.agree()
+		for id, n := range w.nodes {
+			if n.State().Round > 5 {
+				t.Fatalf("seed %d: a late round: the test is no good", seed)
+			}
+			if err := n.Submit("j" + string(rune('a'+id)) + "1"); err != nil {
+				t.Fatal(err)
+			}
+		}
+		for tick := 0; w.least() < api.MaxHeight; tick++ {
+			if tick == 2000 {
+				t.Fatalf("seed %d: no more than %d heights in %d ticks", seed, w.least(), tick)
+			}
+			w.settle()
+			w.tick()
+		}
+		w.agree()
+		w.fold(genesis)
+	}
+}
+
+// fold holds the nodes' registries against what their blocks make.
+func (w *network) fold(genesis []int) {
+	w.t.Helper()
+	for _, n := range w.nodes {
+		var blocks []string
+		for h := range n.State().Height {
+			block, _, _ := n.Decided(h)
+			blocks = append(blocks, block)
+		}
+		want, err := synod.Fold(genesis, blocks)
+		if got := n.Registry(); say(got) != say(want) || err != nil {
+			w.t.Fatalf("Registry = %s, want %s (%v)", say(got), say(want), err)
+		}
+	}
+}
+
+// Some lie (with less than a third), and much is lost: nobody decides otherwise than others.
+func TestP6HonestNodesAgree(t *testing.T) {
+	for seed := range int64(150) {
+		c := []struct {
+			genesis []int
+			liars   []int
+		}{
+			{[]int{1, 1, 1, 1}, []int{1}},
+			{[]int{2, 2, 2, 1}, []int{0}},
+			{[]int{1, 1, 1, 1, 1, 1, 1}, []int{0, 3}},
+			{[]int{9, 4, 9, 9, 4}, []int{1, 4}},
+		}[seed%4]
+		w := connect(t, seed, c.genesis, c.liars...)
+		for tick := range 120 {
+			for _, n := range w.nodes {
+				if n != nil && tick%7 == 0 {
+					n.Submit(someTexts[w.random.Intn(3)])
+				}
+			}
+			for range 2 {
+				for _, liar := range c.liars {
+					w.lie(liar, min(w.least()+w.random.Intn(2), api.MaxHeight-1))
+				}
+				w.carry(1, 3)
+			}
+			w.tick()
+			w.agree()
+		}
+	}
+}
