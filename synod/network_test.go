@@ -100,12 +100,7 @@ func (w *network) lie(liar, height int) {
 		} else if w.random.Intn(3) == 0 {
 			m.Nil, m.Value = true, ""
 		}
-		frame, err := synod.Encode(m)
-		if err != nil {
-			w.t.Fatalf("Encode(%+v): %v", m, err)
-		}
-		w.keys[liar].Sign(frame)
-		w.late = append(w.late, letter{to, frame})
+		w.late = append(w.late, letter{to, signed(w.t, w.keys, m)})
 	}
 }
 
@@ -148,40 +143,13 @@ func (w *network) least() int {
 
 var someGenesis = [][]int{{1, 1, 1, 1}, {1, 1, 1}, {3, 2, 2, 1}, {5, 1, 1}, {1, 1}, {1, 2, 3, 4, 5, 6, 7, 8}, {1, 0, 1, 1, 1}}
 
-// All are honest, and much is lost for a while: then every height is decided, with the records in it.
-func TestP6HonestNodesDecide(t *testing.T) {
-	for seed := range int64(40) {
-		genesis := someGenesis[seed%int64(len(someGenesis))]
-		w := connect(t, seed, genesis)
-		for range seed % 12 {
-			w.carry(4, 4)
-			w.tick()
-		}
-		w.agree()
-		for id, n := range w.nodes {
-			if n.State().Round > 5 {
-				t.Fatalf("seed %d: a late round: the test is no good", seed)
-			}
-			if err := n.Submit("j" + string(rune('a'+id)) + "1"); err != nil {
-				t.Fatal(err)
-			}
-		}
-		for tick := 0; w.least() < api.MaxHeight; tick++ {
-			if tick == 2000 {
-				t.Fatalf("seed %d: no more than %d heights in %d ticks", seed, w.least(), tick)
-			}
-			w.settle()
-			w.tick()
-		}
-		w.agree()
-		w.fold(genesis)
-	}
-}
-
 // fold holds the nodes' registries against what their blocks make.
 func (w *network) fold(genesis []int) {
 	w.t.Helper()
 	for _, n := range w.nodes {
+		if n == nil {
+			continue
+		}
 		var blocks []string
 		for h := range n.State().Height {
 			block, _, _ := n.Decided(h)
@@ -190,37 +158,6 @@ func (w *network) fold(genesis []int) {
 		want, err := synod.Fold(genesis, blocks)
 		if got := n.Registry(); say(got) != say(want) || err != nil {
 			w.t.Fatalf("Registry = %s, want %s (%v)", say(got), say(want), err)
-		}
-	}
-}
-
-// Some lie (with less than a third), and much is lost: nobody decides otherwise than others.
-func TestP6HonestNodesAgree(t *testing.T) {
-	for seed := range int64(150) {
-		c := []struct {
-			genesis []int
-			liars   []int
-		}{
-			{[]int{1, 1, 1, 1}, []int{1}},
-			{[]int{2, 2, 2, 1}, []int{0}},
-			{[]int{1, 1, 1, 1, 1, 1, 1}, []int{0, 3}},
-			{[]int{9, 4, 9, 9, 4}, []int{1, 4}},
-		}[seed%4]
-		w := connect(t, seed, c.genesis, c.liars...)
-		for tick := range 120 {
-			for _, n := range w.nodes {
-				if n != nil && tick%7 == 0 {
-					n.Submit(someTexts[w.random.Intn(3)])
-				}
-			}
-			for range 2 {
-				for _, liar := range c.liars {
-					w.lie(liar, min(w.least()+w.random.Intn(2), api.MaxHeight-1))
-				}
-				w.carry(1, 3)
-			}
-			w.tick()
-			w.agree()
 		}
 	}
 }

@@ -48,11 +48,9 @@ func (n *Node) height() int { return len(n.decided) }
 
 func (n *Node) proposer(round int) int { return n.registry.Proposer(n.height() + round) }
 
-// refusal tells why a frame is refused; nil, if it is not. (A frame's height is below MaxHeight: where that is reached, it is past.)
+// refusal tells why a signed frame is refused; nil, if it is not. (A frame's height is below MaxHeight: where that is reached, it is past.)
 func (n *Node) refusal(m api.Msg, frame string) error {
 	switch {
-	case !n.key.Ring().Signed(m.From, frame):
-		return api.ErrSeal
 	case m.Height < n.height():
 		return api.ErrPast
 	case m.Height > n.height()+1 || m.Round > api.MaxRound:

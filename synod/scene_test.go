@@ -67,15 +67,20 @@ func free(height, round, step int) api.State {
 	return api.State{Height: height, Round: round, Step: step, Locked: -1, Valid: -1}
 }
 
-// frame is signed by its sender.
-func (s *scene) frame(m api.Msg) string {
-	s.t.Helper()
+// signed makes a message's frame, and signs it with its sender's key.
+func signed(t *testing.T, keys []*ring.Key, m api.Msg) string {
+	t.Helper()
 	text, err := synod.Encode(m)
 	if err != nil {
-		s.t.Fatalf("Encode(%+v): %v", m, err)
+		t.Fatalf("Encode(%+v): %v", m, err)
 	}
-	s.keys[m.From].Sign(text)
+	keys[m.From].Sign(text)
 	return text
+}
+
+func (s *scene) frame(m api.Msg) string {
+	s.t.Helper()
+	return signed(s.t, s.keys, m)
 }
 
 func (s *scene) frames(list ...api.Msg) []string {

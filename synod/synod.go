@@ -78,9 +78,9 @@ func (n *Node) Submit(record string) error {
 
 // Receive takes a frame (P7).
 func (n *Node) Receive(frame string) error {
-	m, err := wire.Decode(frame)
+	m, err := wire.Open(n.key.Ring(), frame)
 	if err != nil {
-		return &api.Refused{From: -1, Why: err}
+		return err
 	}
 	err = n.refusal(m, frame)
 	if errors.Is(err, api.ErrPast) {
@@ -138,19 +138,52 @@ func (n *Node) Decided(height int) (string, []string, error) {
 func (n *Node) Registry() api.Registry { return n.registry.Tell() }
 
 // Client follows by certificates alone.
-type Client struct{}
+type Client struct {
+	ring     *ring.Ring
+	registry registry.Registry // behind the blocks that are accepted
+	height   int
+}
 
 // Follow makes a client (P10).
-func Follow(r *ring.Ring, genesis []int) (*Client, error) { return nil, nil }
+func Follow(r *ring.Ring, genesis []int) (*Client, error) {
+	first, err := registry.Genesis(genesis)
+	if err != nil {
+		return nil, err
+	}
+	return &Client{ring: r, registry: first}, nil
+}
 
 // Accept looks at a block and its certificate (P10).
-func (c *Client) Accept(block string, certificate []string) error { return nil }
+func (c *Client) Accept(block string, certificate []string) error {
+	behind, err := c.registry.Behind(block)
+	if err != nil {
+		return err
+	}
+	votes, err := openAll(c.ring, certificate)
+	if err != nil {
+		return why(err)
+	}
+	if !c.isDecided(block, votes) {
+		return api.ErrCert
+	}
+	c.registry = behind
+	c.height++
+	return nil
+}
 
 // Height tells how many blocks the client has accepted (P10).
-func (c *Client) Height() int { return 0 }
+func (c *Client) Height() int { return c.height }
 
 // Registry tells what the accepted blocks make (P10).
-func (c *Client) Registry() api.Registry { return api.Registry{} }
+func (c *Client) Registry() api.Registry { return c.registry.Tell() }
 
 // Blame tells who has signed what nobody may (P10).
-func Blame(r *ring.Ring, a []string, b []string) []int { return nil }
+func Blame(r *ring.Ring, a []string, b []string) []int {
+	var ids []int
+	for id, is := range doubleVoters(precommits(r, slices.Concat(a, b))) {
+		if is {
+			ids = append(ids, id)
+		}
+	}
+	return ids
+}

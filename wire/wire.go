@@ -5,6 +5,7 @@ import (
 	"strings"
 
 	"synod/api"
+	"synod/ring"
 )
 
 // Where the parts of a frame stand.
@@ -57,6 +58,18 @@ func Decode(text string) (api.Msg, error) {
 	// A vote's mark above 1 is lost in the message: the mark made anew shows it.
 	if !hasFrame(m) || mark(m) != text[atMark] {
 		return api.Msg{}, api.ErrForm
+	}
+	return m, nil
+}
+
+// Open reads a frame that is signed by its sender; any other one is refused.
+func Open(r *ring.Ring, text string) (api.Msg, error) {
+	m, err := Decode(text)
+	if err != nil {
+		return api.Msg{}, &api.Refused{From: -1, Why: err}
+	}
+	if !r.Signed(m.From, text) {
+		return api.Msg{}, &api.Refused{From: m.From, Why: api.ErrSeal}
 	}
 	return m, nil
 }
